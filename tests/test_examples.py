@@ -1,0 +1,64 @@
+"""The examples of the document, word for word."""
+
+import unittest
+from pathlib import Path
+
+from pulledpegs import errors
+
+WALLS = r"""
+>>> from pulledpegs.walls import are_tied, hangs_together, is_right, is_set, parts_of, wall_of_text, wall_text
+>>> wall = ((0, 2, 0, 0), ((1, 3), (2, 4)))
+>>> [is_right(wall), is_right(((1,), ())), are_tied(wall, 1, 2), hangs_together(wall, (1, 3)), hangs_together(wall, (1, 2, 3)), parts_of(wall, (1, 3, 4)), parts_of(wall, (1, 3)), is_set(wall, (2, 1))]
+[True, False, True, False, True, ((1, 3, 4),), ((1,), (3,)), False]
+>>> [wall_text(wall), wall_of_text('pegs 0 5') == ((0, 5), ())]
+['pegs 0 2 0 0 rails 1-3 2-4', True]
+"""
+
+CORDS_AND_ROUNDS = r"""
+>>> from pulledpegs.cords import are_alike, back, behind, form_of, judge_alike, length_of, slid, swap
+>>> wall = ((0, 3, 0), ((1, 3),))
+>>> [form_of(wall, ((3, 1), (1, 2))), form_of(wall, ((2, 5), (1, 1), (3, 2), (1, -1))), form_of(wall, ((2, 1), (2, 2), (1, 1))), length_of(wall, ((2, 2), (1, -4))), back(wall, ((1, 2), (2, -1)))]
+[((1, 2), (3, 1)), ((2, 2), (3, 2)), ((1, 1),), 5, ((2, 1), (1, -2))]
+>>> [slid(wall, ((1, 1), (3, 1), (1, -1)), ('past', 0)), slid(wall, ((1, 1), (1, -1)), ('join', 0)), slid(wall, ((2, 7),), ('turn', 0)), swap(wall, ((1, 1),), ((2, 1),)), are_alike(wall, swap(wall, ((1, 1),), ((3, 1),)), ()), judge_alike(wall, ((1, 1),), ((2, 1),))]
+[((3, 1), (1, 1), (1, -1)), (), ((2, 1),), ((1, 1), (2, 1), (1, -1), (2, -1)), True, ('forms', ((1, 1),), ((2, 1),))]
+>>> from pulledpegs.rounds import is_round, round_form, round_holds
+>>> [round_form(wall, ((2, 1), (1, 4), (2, -1))), is_round(wall, ((1, 1), (2, 1)), ((2, 1), (1, 1))), round_holds(wall, ((1, 1), (2, 1)), ((2, 1), (1, 1)), ('cord', ((2, 1),))), is_round(wall, ((2, 1),), ((2, 2),))]
+[((1, 4),), True, True, False]
+>>> slid(wall, ((1, 1), (2, 1)), ('past', 0))
+raises BadSlide(('past', 0))
+"""
+
+
+def shown(code, names):
+    """What stands below a line of code: its result, "raises" and the error, or "" for a statement."""
+    try:
+        return repr(eval(code, names))
+    except SyntaxError:
+        exec(code, names)
+        return ""
+    except errors.PegError as error:
+        told = ", ".join(repr(value) for value in vars(error).values())
+        return f"raises {error.__class__.__name__}({told})"
+
+
+class Examples(unittest.TestCase):
+    def run_through(self, text):
+        names = {}
+        lines = text.strip().split("\n")
+        for at, line in enumerate(lines):
+            if line.startswith(">>> "):
+                due = lines[at + 1] if at + 1 < len(lines) and not lines[at + 1].startswith(">>> ") else ""
+                with self.subTest(line=line):
+                    self.assertEqual(shown(line[4:], names), due)
+
+    def test_walls(self):
+        self.run_through(WALLS)
+
+    def test_cords_and_rounds(self):
+        self.run_through(CORDS_AND_ROUNDS)
+
+    def test_the_readme(self):
+        text = (Path(__file__).resolve().parent.parent / "README.md").read_text(encoding="utf-8")
+        for block in text.split("```\n")[1::2]:
+            if block.startswith(">>> "):
+                self.run_through(block)

@@ -1,0 +1,106 @@
+"""At the greatest sizes of the limits, and somewhat beyond, an answer comes at once."""
+
+import itertools
+import random
+import time
+import unittest
+
+from pulledpegs import cords, rounds, walls
+
+ALL_PEGS = tuple(range(1, 11))
+ALL_RAILS = tuple(itertools.combinations(ALL_PEGS, 2))
+AT_ONCE = 0.5
+
+WALLS = [
+    ((0,) * 10, ()), ((30,) * 10, ()), ((0,) * 10, ALL_RAILS), ((30,) * 10, ALL_RAILS), ((2,) * 10, ALL_RAILS[::2]),
+    ((0, 30) * 5, ALL_RAILS[::3]), ((0,) * 10, tuple(rail for rail in ALL_RAILS if rail[0] + 1 != rail[1])),
+]
+
+
+def long_cords(chance):
+    million = 10 ** 6
+    yield tuple((peg, million) for peg in ALL_PEGS) * 4
+    yield tuple((peg, -million) for peg in reversed(ALL_PEGS)) * 4
+    yield ((1, million), (1, -million)) * 20
+    yield ((1, million),) * 40
+    half = tuple((chance.randint(1, 10), chance.choice((-million, million))) for _ in range(20))
+    yield half + tuple((peg, -winds) for peg, winds in reversed(half))
+    for _ in range(3):
+        yield tuple((chance.randint(1, 10), chance.choice((-million, -1, 1, 7, million))) for _ in range(40))
+
+
+class Sizes(unittest.TestCase):
+    def at_once(self, function, *values):
+        began = time.perf_counter()
+        result = function(*values)
+        self.assertLess(time.perf_counter() - began, AT_ONCE, function)
+        return result
+
+    def test_walls(self):
+        for wall in WALLS:
+            self.assertIs(self.at_once(walls.is_right, wall), True)
+            self.assertIs(self.at_once(walls.is_set, wall, ALL_PEGS), True)
+            parts = self.at_once(walls.parts_of, wall, ALL_PEGS)
+            self.assertIs(self.at_once(walls.hangs_together, wall, ALL_PEGS), len(parts) == 1)
+            self.assertEqual(self.at_once(walls.wall_of_text, self.at_once(walls.wall_text, wall)), wall)
+
+    def test_cords(self):
+        for wall in WALLS:
+            for cord in long_cords(random.Random(8)):
+                form = self.at_once(cords.form_of, wall, cord)
+                self.assertLessEqual(len(form), 40)
+                self.assertEqual(self.at_once(cords.form_of, wall, form), form)
+                self.assertIs(self.at_once(cords.is_cord, wall, cord), True)
+                self.assertGreaterEqual(self.at_once(cords.length_of, wall, cord), len(form))
+                turned = self.at_once(cords.back, wall, cord)
+                both = self.at_once(cords.behind, wall, cord, turned)
+                self.assertEqual(self.at_once(cords.form_of, wall, both), ())
+                swapped = self.at_once(cords.swap, wall, cord, cord)
+                self.assertIs(self.at_once(cords.are_alike, wall, swapped, ()), True)
+                told = self.at_once(cords.judge_alike, wall, cord, form)
+                self.assertIs(self.at_once(cords.alike_holds, wall, cord, form, told), True)
+
+    def test_rows_of_400_slides(self):
+        for wall in (((2,) * 10, ALL_RAILS), ((0,) * 10, ALL_RAILS)):
+            cord = tuple((peg, 1) for peg in ALL_PEGS) * 4
+            form = cords.form_of(wall, cord)
+            began = time.perf_counter()
+            for at in range(400):
+                peg = cord[at % 39][0]
+                word = "past" if peg != cord[at % 39 + 1][0] else "join"
+                if word == "past":
+                    cord = cords.slid(wall, cord, (word, at % 39))
+            self.assertLess(time.perf_counter() - began, 4 * AT_ONCE)
+            self.assertEqual(cords.form_of(wall, cord), form)
+
+    def test_rounds(self):
+        chance = random.Random(9)
+        million = 10 ** 6
+        for wall in WALLS:
+            for many in (6, 8):
+                for _ in range(4):
+                    one = tuple((peg, chance.choice((-million, 1, 7))) for peg in chance.sample(ALL_PEGS, many))
+                    turn = chance.randrange(many)
+                    for other in (one[turn:] + one[:turn], one[:-1], one[:-1] + ((one[-1][0], 3),)):
+                        self.at_once(rounds.round_form, wall, other)
+                        told = self.at_once(rounds.judge_round, wall, one, other)
+                        self.assertIs(self.at_once(rounds.round_holds, wall, one, other, told), True)
+                        self.assertIs(self.at_once(rounds.is_round, wall, one, other), told[0] == "cord")
+
+    def test_long_certificates(self):
+        for wall in WALLS:
+            one = tuple((peg, 3) for peg in ALL_PEGS[:6])
+            lead = one * 150
+            self.assertIs(self.at_once(rounds.round_holds, wall, one, one, ("cord", lead)), True)
+            other = one[3:] + one[:3]
+            self.assertIs(self.at_once(rounds.round_holds, wall, other, one, ("cord", lead + one[:3])), True)
+
+    def test_long_wrong_values(self):
+        wall = WALLS[4]
+        pairs = ((1, 1), (2, -1)) * 450
+        for thing in (pairs, pairs + ((1, 0),), ((1, 2),) * 900, (0,) * 3000, "pegs" + " 0" * 900, " " * 2000):
+            for ask in (walls.is_right, lambda value: walls.is_set(wall, value), lambda value: cords.is_cord(wall, value),
+                        lambda value: cords.alike_holds(wall, (), ((1, 1),), ("forms", value, value)),
+                        lambda value: rounds.round_holds(wall, (), ((1, 1),), ("forms", value, value)),
+                        lambda value: rounds.round_holds(wall, (), ((1, 1),), ("cord", value))):
+                self.at_once(ask, thing)
