@@ -29,6 +29,16 @@ def is_peg_set(many, thing):
     return is_ascending(thing)
 
 
+def are_unlike_pegs(many, thing):
+    """Whether any value is a tuple of unlike pegs of a wall of so many pegs."""
+    if not isinstance(thing, tuple):
+        return False
+    for at, peg in enumerate(thing):
+        if not is_peg(many, peg) or peg in thing[:at]:
+            return False
+    return True
+
+
 def is_wound(many, thing):
     """Whether any value is a cord of a wall of so many pegs; neither slip numbers nor rails matter for this."""
     if not isinstance(thing, tuple):

@@ -5,9 +5,9 @@ import inspect
 import itertools
 import unittest
 
-from pulledpegs import cords, rounds, walls
-from pulledpegs.errors import BadCord, BadSet, BadSlide, BadText, BadWall
-from tests.odd import NO_CORDS, NO_SETS, NO_SLIDES, NO_WALLS, ODD
+from pulledpegs import cords, nests, pulled, rounds, rules, walls, wishes
+from pulledpegs.errors import BadCord, BadOrder, BadRule, BadSet, BadSlide, BadTable, BadText, BadWall, PegError
+from tests.odd import NO_CORDS, NO_ORDERS, NO_PULLS, NO_RULES, NO_SETS, NO_SLIDES, NO_TABLES, NO_WALLS, ODD
 
 WALL = ((0, 2, 3, 0), ((1, 3), (2, 4)))
 ONE = ((1, 1), (3, 2), (2, 1), (1, -1))
@@ -16,7 +16,18 @@ OTHER = ((3, 2), (1, 1), (2, 1), (1, -1))
 WALL_ROW = ("wall", WALL, BadWall, NO_WALLS)
 CORD_ROW = ("cord", ONE, BadCord, NO_CORDS)
 SET_ROW = ("pegs", (1, 2, 4), BadSet, NO_SETS)
+KEPT_ROW = ("kept", (1, 2, 4), BadSet, NO_SETS)
 TWO_ROWS = [WALL_ROW, ("one", ONE, BadCord, NO_CORDS), ("other", OTHER, BadCord, NO_CORDS)]
+
+RULE = ((1, 2), (1, 4), (3,))
+SECOND = ((2, 3), (4,))
+MANY_ROW = ("many", 4, None, [])
+RULE_ROW = ("rule", RULE, BadRule, NO_RULES)
+TWO_RULES = [("one", RULE, BadRule, NO_RULES), ("other", SECOND, BadRule, NO_RULES)]
+# A cord with the rule.
+SWAPS = ((1, 1), (2, 1), (1, -1), (2, -1), (3, 1), (4, 5), (1, 2), (4, -5), (1, -2))
+TABLE = (False, False, False, True, True, True, True, True, False, True, False, True, True, True, True, True)
+TABLE_ROW = ("table", TABLE, BadTable, NO_TABLES)
 
 # Each function with its parameters in their order: the name, a right value, the error for a wrong one, wrong values.
 CALLS = [
@@ -41,12 +52,46 @@ CALLS = [
     (rounds.judge_round, TWO_ROWS, None),
     (rounds.round_holds, TWO_ROWS + [("thing", ("cord", ()), None, ODD)], True),
     (rounds.is_round, TWO_ROWS, True),
+    (pulled.cord_on, [WALL_ROW, CORD_ROW, KEPT_ROW], ((1, 1), (2, 1), (1, -1))),
+    (pulled.does_keep, [WALL_ROW, CORD_ROW, KEPT_ROW], True),
+    (pulled.judge_keep, [WALL_ROW, CORD_ROW, KEPT_ROW], ("rest", ((1, 1), (2, 1), (1, -1)))),
+    (pulled.keep_holds, [WALL_ROW, CORD_ROW, KEPT_ROW, ("thing", ("rest", ((1, 1), (2, 1), (1, -1))), None, ODD)], True),
+    (pulled.first_fall, [WALL_ROW, CORD_ROW, ("pulls", (3, 1, 2), BadOrder, NO_PULLS)], 3),
+    (rules.is_rule, [MANY_ROW, ("thing", RULE, None, NO_RULES)], True),
+    (rules.keeps, [MANY_ROW, RULE_ROW, KEPT_ROW], True),
+    (rules.falling_sets, [MANY_ROW, RULE_ROW], ((1,), (2, 4))),
+    (rules.least_pulls, [MANY_ROW, RULE_ROW], ((1, 3), (2, 3, 4))),
+    (rules.either, [MANY_ROW] + TWO_RULES, ((1, 2), (3,), (4,))),
+    (rules.both, [MANY_ROW] + TWO_RULES, ((1, 4), (2, 3), (3, 4))),
+    (rules.kept_by_size, [MANY_ROW, RULE_ROW], (0, 1, 5, 4, 1)),
+    (rules.rule_of, [WALL_ROW, CORD_ROW], ((2,), (3,))),
+    (rules.judge_rule, [WALL_ROW, CORD_ROW], ("rule", ((2,), (3,)), ((1, 4),))),
+    (rules.rule_holds, [WALL_ROW, CORD_ROW, ("thing", ("rule", ((2,), (3,)), ((1, 4),)), None, ODD)], True),
+    (nests.nest, [WALL_ROW, ("order", (1, 2), BadOrder, NO_ORDERS)], ((1, 1), (2, 1), (1, -1), (2, -1))),
+    (nests.order_for, [WALL_ROW, ("pegs", (1, 2), BadSet, NO_SETS + [(), (1, 3), (2, 4)])], None),
+    (wishes.has_cord, [WALL_ROW, RULE_ROW], True),
+    (wishes.judge_wish, [WALL_ROW, RULE_ROW], None),
+    (wishes.wish_holds, [WALL_ROW, RULE_ROW, ("thing", ("cord", SWAPS), None, ODD)], True),
+    (wishes.cord_for, [WALL_ROW, RULE_ROW], None),
+    (wishes.fewest_pairs, [WALL_ROW, RULE_ROW], 7),
+    (wishes.judge_table, [WALL_ROW, TABLE_ROW], None),
+    (wishes.table_holds, [WALL_ROW, TABLE_ROW, ("thing", ("cord", SWAPS), None, ODD)], True),
+    (wishes.table_of, [MANY_ROW, RULE_ROW], TABLE),
+    (wishes.judge_both, [WALL_ROW, TWO_RULES[0], TWO_RULES[1]], None),
+    (wishes.many_rules, [WALL_ROW], 83),
+    (wishes.all_rules, [WALL_ROW], None),
 ]
 
 LISTED = {
     walls: ["is_right", "is_set", "are_tied", "hangs_together", "parts_of", "wall_text", "wall_of_text"],
     cords: ["is_cord", "slid", "form_of", "length_of", "back", "behind", "swap", "are_alike", "judge_alike", "alike_holds"],
     rounds: ["round_form", "judge_round", "round_holds", "is_round"],
+    pulled: ["cord_on", "does_keep", "judge_keep", "keep_holds", "first_fall"],
+    rules: ["is_rule", "keeps", "falling_sets", "least_pulls", "either", "both", "kept_by_size", "rule_of", "judge_rule",
+            "rule_holds"],
+    nests: ["nest", "order_for"],
+    wishes: ["has_cord", "judge_wish", "wish_holds", "cord_for", "fewest_pairs", "judge_table", "table_holds", "table_of",
+             "judge_both", "many_rules", "all_rules"],
 }
 
 
@@ -107,17 +152,18 @@ class Calls(unittest.TestCase):
                                 values[at] = rows[at][3][len(rows[at][3]) // 2 + at]
                         self.check_error(function, values, rows[first][2], value)
 
-    def test_the_first_of_two_cords(self):
+    def test_the_first_of_two_cords_or_rules(self):
         for function, rows, _ in CALLS:
-            if rows[:3] == TWO_ROWS:
+            if len(rows) > 2 and rows[1][0] == "one":
                 rest = [row[1] for row in rows[3:]]
-                for one, other in itertools.product(NO_CORDS[::4], repeat=2):
-                    self.check_error(function, [WALL, one, other] + rest, BadCord, one)
+                error, wrong = rows[1][2:]
+                for one, other in itertools.product(wrong[::4], repeat=2):
+                    self.check_error(function, [rows[0][1], one, other] + rest, error, one)
 
     def test_what_fits_another_wall_is_wrong(self):
-        small = ((0, 2), ())
         for function, rows, _ in CALLS:
-            if len(rows) > 1 and rows[1][2] is not None:
+            if len(rows) > 1 and rows[1][2] is not None and rows[1][0] not in ("order", "pegs"):
+                small = 2 if rows[0] == MANY_ROW else ((0, 2), ())
                 values = [small] + [row[1] for row in rows[1:]]
                 self.check_error(function, values, rows[1][2], values[1])
 
@@ -125,7 +171,7 @@ class Calls(unittest.TestCase):
         for function, rows, _ in CALLS:
             values = [row[1] for row in rows]
             for at, (_, _, error, _) in enumerate(rows):
-                if error in (BadWall, BadCord, BadSet, BadSlide):
+                if error not in (None, BadText):
                     wrong = ONE if error is BadWall else WALL
                     self.check_error(function, values[:at] + [wrong] + values[at + 1:], error, wrong)
 
@@ -138,7 +184,7 @@ class Calls(unittest.TestCase):
                     values[at] = value
                     try:
                         function(*values)
-                    except (BadWall, BadCord, BadSet, BadSlide, BadText):
+                    except PegError:
                         pass
                     self.assertEqual(repr(value), repr(kept))
 

@@ -28,6 +28,34 @@ CORDS_AND_ROUNDS = r"""
 raises BadSlide(('past', 0))
 """
 
+PULLED = r"""
+>>> from pulledpegs.pulled import cord_on, does_keep, first_fall, judge_keep, keep_holds
+>>> wall, cord = ((0, 2, 0), ((1, 3),)), ((1, 1), (2, 1), (1, -1), (2, 1))
+>>> [cord_on(wall, cord, (1,)), does_keep(wall, cord, (1, 2)), does_keep(wall, cord, (2, 3)), judge_keep(wall, cord, (1, 2)), keep_holds(wall, cord, (2,), ('slides', (('join', 0), ('turn', 0)))), first_fall(wall, cord, (3, 2)), first_fall(wall, cord, (3,))]
+[((1, 1), (1, -1)), True, False, ('rest', ((1, 1), (2, 1), (1, -1), (2, 1))), True, 2, None]
+"""
+
+RULES = r"""
+>>> from pulledpegs.rules import both, either, falling_sets, is_rule, judge_rule, keeps, kept_by_size, least_pulls, rule_of
+>>> rule = ((1, 2), (3,))
+>>> [keeps(3, rule, (1, 3)), falling_sets(3, rule), least_pulls(3, rule), either(3, rule, ((2,),)), both(3, rule, ((2,),)), kept_by_size(3, rule), is_rule(3, ((1,), (1, 2))), falling_sets(2, ())]
+[True, ((1,), (2,)), ((1, 3), (2, 3)), ((2,), (3,)), ((1, 2), (2, 3)), (0, 1, 3, 1), False, ((1, 2),)]
+>>> [rule_of(((0, 2, 0), ((1, 3),)), ((1, 1), (2, 1), (1, -1), (2, 1), (3, 2))), judge_rule(((0, 0), ()), ((1, 1), (2, 1), (1, -1), (2, -1)))]
+[((1, 2), (3,)), ('rule', ((1, 2),), ((1,), (2,)))]
+"""
+
+NESTS_AND_WISHES = r"""
+>>> from pulledpegs.nests import nest, order_for
+>>> from pulledpegs.wishes import all_rules, cord_for, fewest_pairs, has_cord, judge_both, judge_table, judge_wish, many_rules, table_of, wish_holds
+>>> free, railed = ((0, 0), ()), ((0, 0, 0), ((1, 3), (2, 3)))
+>>> [nest(free, (2, 1)), order_for(free, (2,)), has_cord(railed, ((1, 3),)), judge_wish(railed, ((1, 2), (3,)))[0], wish_holds(railed, ((1, 3),), ('parted', (1, 3), (3,))), fewest_pairs(railed, ((1, 2), (3,)))]
+[((2, 1), (1, 1), (2, -1), (1, -1)), (2,), False, 'cord', True, 5]
+>>> [all_rules(free), many_rules(((0, 0), ((1, 2),))), table_of(2, ((1, 2),)), judge_table(free, (False, True, False, False)), judge_both(railed, ((1,),), ((3,),))[:2], judge_both(railed, ((1,),), ((2,),))[0]]
+[((), ((1,),), ((1,), (2,)), ((1, 2),), ((2,),)), 4, (False, False, False, True), ('more', (1,), (1, 2)), ('parted', (1, 3)), 'cord']
+>>> wish_holds(free, ((1, 2),), ('cord', ((1, 2), (2, 1), (1, -2), (2, -1))))
+True
+"""
+
 
 def shown(code, names):
     """What stands below a line of code: its result, "raises" and the error, or "" for a statement."""
@@ -56,6 +84,15 @@ class Examples(unittest.TestCase):
 
     def test_cords_and_rounds(self):
         self.run_through(CORDS_AND_ROUNDS)
+
+    def test_pulled(self):
+        self.run_through(PULLED)
+
+    def test_rules(self):
+        self.run_through(RULES)
+
+    def test_nests_and_wishes(self):
+        self.run_through(NESTS_AND_WISHES)
 
     def test_the_readme(self):
         text = (Path(__file__).resolve().parent.parent / "README.md").read_text(encoding="utf-8")

@@ -5,7 +5,7 @@ import random
 import time
 import unittest
 
-from pulledpegs import cords, rounds, walls
+from pulledpegs import cords, nests, pulled, rounds, rules, walls, wishes
 
 ALL_PEGS = tuple(range(1, 11))
 ALL_RAILS = tuple(itertools.combinations(ALL_PEGS, 2))
@@ -104,3 +104,106 @@ class Sizes(unittest.TestCase):
                         lambda value: rounds.round_holds(wall, (), ((1, 1),), ("forms", value, value)),
                         lambda value: rounds.round_holds(wall, (), ((1, 1),), ("cord", value))):
                 self.at_once(ask, thing)
+
+
+def wound(chance, many, pairs, winds=(-7, -1, 1, 2)):
+    return tuple((chance.randint(1, many), chance.choice(winds)) for _ in range(pairs))
+
+
+class SizesOfSets(unittest.TestCase):
+    def at_once(self, function, *values):
+        began = time.perf_counter()
+        result = function(*values)
+        self.assertLess(time.perf_counter() - began, AT_ONCE, function)
+        return result
+
+    def test_pulled(self):
+        chance = random.Random(10)
+        for wall in WALLS:
+            for _ in range(5):
+                half = wound(chance, 10, 15)
+                turned = tuple((peg, -winds) for peg, winds in reversed(half))
+                for cord in (half + turned, half + half, wound(chance, 10, 40)):
+                    for kept in (ALL_PEGS, ALL_PEGS[::2], ()):
+                        told = self.at_once(pulled.judge_keep, wall, cord, kept)
+                        self.assertIs(self.at_once(pulled.keep_holds, wall, cord, kept, told), True)
+                        self.assertIs(self.at_once(pulled.does_keep, wall, cord, kept), told[0] == "rest")
+                    for pulls in (ALL_PEGS, ALL_PEGS[::-1]):
+                        self.at_once(pulled.first_fall, wall, cord, pulls)
+
+    def test_rules_of_cords(self):
+        chance = random.Random(11)
+        for wall in WALLS:
+            for pairs in (24, 40):
+                cord = wound(chance, 10, pairs)
+                rule = self.at_once(rules.rule_of, wall, cord)
+                told = self.at_once(rules.judge_rule, wall, cord)
+                self.assertIs(self.at_once(rules.rule_holds, wall, cord, told), True)
+                self.assertEqual(told[1], rule)
+
+    def test_rules_of_ten_pegs(self):
+        chance = random.Random(12)
+        for size in (2, 3, 4, 5):
+            sets = list(itertools.combinations(ALL_PEGS, size))
+            one, other = (tuple(sorted(chance.sample(sets, 40))) for _ in range(2))
+            self.assertIs(self.at_once(rules.is_rule, 10, one), True)
+            self.assertIs(self.at_once(rules.keeps, 10, one, ALL_PEGS), True)
+            for function in (rules.falling_sets, rules.least_pulls, rules.kept_by_size, wishes.table_of):
+                self.at_once(function, 10, one)
+            for function in (rules.either, rules.both):
+                self.assertIs(rules.is_rule(10, self.at_once(function, 10, one, other)), True)
+
+    def test_wishes(self):
+        chance = random.Random(13)
+        for wall in WALLS:
+            for size in (3, 5):
+                sets = [pegs for pegs in itertools.combinations(ALL_PEGS, size) if walls.hangs_together(wall, pegs)]
+                rule = tuple(sorted(chance.sample(sets, min(12, len(sets)))))
+                self.assertIs(self.at_once(wishes.has_cord, wall, rule), True)
+                cord = self.at_once(wishes.cord_for, wall, rule)
+                self.assertIs(self.at_once(wishes.wish_holds, wall, rule, ("cord", cord)), True)
+                self.assertIs(self.at_once(wishes.wish_holds, wall, rule, ("cord", cord + ((1, 1),))), False)
+                self.assertEqual(self.at_once(rules.rule_of, wall, cord), rule)
+                self.at_once(wishes.fewest_pairs, wall, rule)
+            one, other = (tuple(sorted(chance.sample(list(itertools.combinations(ALL_PEGS, 3)), 6))) for _ in range(2))
+            if wishes.has_cord(wall, one) and wishes.has_cord(wall, other):
+                told = self.at_once(wishes.judge_both, wall, one, other)
+                self.assertIs(self.at_once(wishes.wish_holds, wall, rules.both(10, one, other), told), True)
+
+    def test_cords_of_a_thousand_pairs_in_certificates(self):
+        chance = random.Random(14)
+        sets = tuple(itertools.combinations(ALL_PEGS, 5))
+        for wall in WALLS:
+            for rule in (tuple((peg,) for peg in ALL_PEGS), tuple(sorted(chance.sample(sets, 12))), ()):
+                for cord in (wound(chance, 10, 1000), nests.nest(WALLS[0], ALL_PEGS[:9]), tuple((peg, 1) for peg in ALL_PEGS) * 100):
+                    self.at_once(wishes.wish_holds, wall, rule, ("cord", cord))
+                    if walls.hangs_together(wall, ALL_PEGS) and wishes.has_cord(wall, rule):
+                        more = wishes.cord_for(wall, rule) + cord[:400]
+                        self.at_once(wishes.wish_holds, wall, rule, ("cord", more))
+
+    def test_tables_and_few_pegs(self):
+        chance = random.Random(15)
+        for many in (4, 5):
+            for rails in ((), ALL_RAILS[:3]):
+                wall = ((0,) * many, rails)
+                for rule in chance.sample(wishes.all_rules(((0, 0, 0), ())), 8):
+                    table = self.at_once(wishes.table_of, many, rule)
+                    told = self.at_once(wishes.judge_table, wall, table)
+                    self.assertIs(self.at_once(wishes.table_holds, wall, table, told), True)
+                self.at_once(wishes.judge_table, wall, tuple(chance.choice((False, True)) for _ in range(2 ** many)))
+                if many == 4:
+                    self.at_once(wishes.many_rules, wall)
+
+    def test_long_wrong_certificates(self):
+        wall = WALLS[0]
+        cord, rule = wound(random.Random(16), 10, 24), ((1, 2), (3,))
+        table = wishes.table_of(5, rule)
+        for thing in (((1, 1), (2, -1)) * 450, (("join", 0),) * 900, (("turn", 0),) * 900, ((1,),) * 900, (0,) * 3000):
+            for word in ("slides", "rest", "rule", "cord", "parted", "more"):
+                for told in ((word, thing), (word, thing, thing), thing):
+                    self.at_once(pulled.keep_holds, wall, cord, ALL_PEGS, told)
+                    self.at_once(rules.rule_holds, wall, cord, told)
+                    self.at_once(wishes.wish_holds, wall, rule, told)
+                    self.at_once(wishes.table_holds, ((0,) * 5, ()), table, told)
+            self.at_once(rules.is_rule, 10, thing)
+        self.at_once(rules.is_rule, 10, tuple(sorted(itertools.combinations(ALL_PEGS, 5))))
