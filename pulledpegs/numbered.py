@@ -86,6 +86,6 @@ def breach_in(table):
     """The numbers of a set that is kept and of one with one peg more that is not, None if there are none."""
     for number, kept in enumerate(table):
         for bit in _bits(table):
-            if kept and number & bit == 0 and not table[number | bit]:
+            if kept and not table[number | bit]:
                 return (number, number | bit)
     return None

@@ -72,3 +72,24 @@ NO_TABLES = ODD + [
     (False,) * 15 + (None,), (False,) * 15 + ((),), ("",) * 16, (False,) * 15 + ("True",), ((False,) * 16,), (),
     (False,) * 8, (True,) * 32, {number: False for number in range(16)}, (False,) * 15 + ([],), (False,),
 ]
+
+# For the plain wall of ten pegs.
+NO_PLAIN_CORDS = [thing for thing in NO_CORDS if thing != ((5, 1),) and not (isinstance(thing, tuple) and len(thing) == 5)]
+NO_PLAIN_CORDS += [((11, 1),), ((10, 1), (11, 1)), ((10, 0),)]
+
+NO_ROWS = [thing for thing in ODD if thing != ()] + [
+    (0,), (11,), (1, 11), (-1,), (1, 0), (True,), (1, True), (False,), [1], [1, 2], (1, None), ("1",), (1, (2,)), {1: 2},
+    (10 ** 39,), (1,) * 20 + (11,),
+]
+
+# For the wall of four pegs with the slip numbers 0, 2, 3, 0, and rails between 1 and 3, and between 2 and 4.
+NO_CHANGES = ODD + [
+    (), ("rail",), ("rail", 1), ("rail", 4, 1), ("rail", 1, 3), ("rail", 1, 1), ("rail", 1, 5), ("rail", 0, 1), ("rail", True, 4),
+    ("rail", 1, 4, 4), ["rail", 1, 4], ("Rail", 1, 4), ("rail", (1, 4)), ("rail", 1, None), ("wear", 1), ("wear", 1, 1),
+    ("wear", 1, 31), ("wear", 1, 0), ("wear", 1, -2), ("wear", 2, 2), ("wear", 3, 3), ("wear", 3, 2), ("wear", 0, 2),
+    ("wear", 5, 2), ("wear", True, 2), ("wear", 1, True), ("wear", 1, "2"), ("wear", 1, 2, 2), ("wear", 1, 10 ** 39),
+    ("bring", 1, 4), ("bring", 4, 1), ("bring", 1, 2), ("bring", 2, 3), ("bring", 1, 3), ("bring", 1, 1), ("bring", 1),
+    ("double", 2), ("double", 3), ("double", 0), ("double", 5), ("double", True), ("double",), ("double", 1, 4), ("double", "1"),
+    ["double", 1], ("carry", 1, 2), ("carry", 2, 1), ("carry", 1, 4), ("carry", 1, 1), ("carry", 1, 3), ("carry", 1), "rail",
+    ("", 1, 4), (None, 1, 4), (1, 4), ([], 1, 4), ({}, 1), (("rail", 1, 4),), ("rail", {}, []), ("double", ()), ("join", 0),
+]

@@ -5,9 +5,11 @@ import inspect
 import itertools
 import unittest
 
-from pulledpegs import cords, nests, pulled, rounds, rules, walls, wishes
-from pulledpegs.errors import BadCord, BadOrder, BadRule, BadSet, BadSlide, BadTable, BadText, BadWall, PegError
-from tests.odd import NO_CORDS, NO_ORDERS, NO_PULLS, NO_RULES, NO_SETS, NO_SLIDES, NO_TABLES, NO_WALLS, ODD
+from pulledpegs import allcords, chains, changes, cords, counts, nests, pulled, rounds, rules, walls, wishes
+from pulledpegs.errors import (BadChange, BadCord, BadOrder, BadRow, BadRule, BadSet, BadSlide, BadTable, BadText, BadWall,
+                               PegError)
+from tests.odd import (NO_CHANGES, NO_CORDS, NO_ORDERS, NO_PLAIN_CORDS, NO_PULLS, NO_ROWS, NO_RULES, NO_SETS, NO_SLIDES, NO_TABLES,
+                       NO_WALLS, ODD)
 
 WALL = ((0, 2, 3, 0), ((1, 3), (2, 4)))
 ONE = ((1, 1), (3, 2), (2, 1), (1, -1))
@@ -28,6 +30,16 @@ TWO_RULES = [("one", RULE, BadRule, NO_RULES), ("other", SECOND, BadRule, NO_RUL
 SWAPS = ((1, 1), (2, 1), (1, -1), (2, -1), (3, 1), (4, 5), (1, 2), (4, -5), (1, -2))
 TABLE = (False, False, False, True, True, True, True, True, False, True, False, True, True, True, True, True)
 TABLE_ROW = ("table", TABLE, BadTable, NO_TABLES)
+
+PLAIN_ROW = ("cord", ONE, BadCord, NO_PLAIN_CORDS)
+CHANGE = ("rail", 1, 4)
+CHANGE_ROW = ("change", CHANGE, BadChange, NO_CHANGES)
+LEADING_ROW = ("change", ("double", 4), BadChange, NO_CHANGES + [CHANGE, ("wear", 1, 2)])
+JUDGED_ROW = ("change", CHANGE, BadChange, NO_CHANGES + [("double", 1), ("double", 4)])
+# A tuple is wrong by its first item that is no change, so here stand only values that are no tuples.
+CHANGES_ROW = ("changes", (CHANGE, ("wear", 4, 7)), BadChange, [thing for thing in ODD if not isinstance(thing, tuple)])
+LED = ((0, 2, 3, 7), ((1, 3), (1, 4), (2, 4)))
+FELL = ((1, 1), (2, 1), (1, -1), (2, -1), (1, 1), (4, 1), (1, -1), (4, -1), (3, 1))
 
 # Each function with its parameters in their order: the name, a right value, the error for a wrong one, wrong values.
 CALLS = [
@@ -80,6 +92,23 @@ CALLS = [
     (wishes.judge_both, [WALL_ROW, TWO_RULES[0], TWO_RULES[1]], None),
     (wishes.many_rules, [WALL_ROW], 83),
     (wishes.all_rules, [WALL_ROW], None),
+    (counts.count_of, [PLAIN_ROW, ("row", (1, 3, 2), BadRow, NO_ROWS)], 2),
+    (counts.counted_rows, [PLAIN_ROW, ("length", 1, None, [])], (((), 1), ((2,), 1), ((3,), 2))),
+    (counts.depth_of, [PLAIN_ROW], 1),
+    (counts.judge_row, [PLAIN_ROW], None),
+    (counts.row_holds, [PLAIN_ROW, ("thing", ("row", (1, 3, 2), 2), None, ODD)], True),
+    (changes.is_change, [WALL_ROW, ("thing", CHANGE, None, NO_CHANGES)], True),
+    (changes.wall_behind, [WALL_ROW, CHANGE_ROW], ((0, 2, 3, 0), ((1, 3), (1, 4), (2, 4)))),
+    (changes.changed_cord, [WALL_ROW, CHANGE_ROW, CORD_ROW], ONE),
+    (changes.led_rule, [WALL_ROW, LEADING_ROW, RULE_ROW], ((1, 2), (1, 4), (1, 5), (3,))),
+    (allcords.judge_change, [WALL_ROW, RULE_ROW, JUDGED_ROW, KEPT_ROW], ("sure", (1, 2))),
+    (allcords.change_holds, [WALL_ROW, RULE_ROW, JUDGED_ROW, KEPT_ROW, ("thing", ("sure", (1, 2)), None, ODD)], True),
+    (allcords.after_change, [WALL_ROW, RULE_ROW, JUDGED_ROW, KEPT_ROW], "sure"),
+    (chains.walls_led, [WALL_ROW, CHANGES_ROW], (WALL, ((0, 2, 3, 0), LED[1]), LED)),
+    (chains.cord_led, [WALL_ROW, CHANGES_ROW, CORD_ROW], ONE),
+    (chains.new_rule, [WALL_ROW, CHANGE_ROW, ("cord", FELL, BadCord, NO_CORDS)], ((1, 2), (3,))),
+    (chains.lost_sets, [WALL_ROW, CHANGE_ROW, ("cord", FELL, BadCord, NO_CORDS)], ((1, 4),)),
+    (chains.is_firm, [WALL_ROW, ("change", ("wear", 4, 2), BadChange, NO_CHANGES), ("cord", FELL, BadCord, NO_CORDS)], True),
 ]
 
 LISTED = {
@@ -92,6 +121,10 @@ LISTED = {
     nests: ["nest", "order_for"],
     wishes: ["has_cord", "judge_wish", "wish_holds", "cord_for", "fewest_pairs", "judge_table", "table_holds", "table_of",
              "judge_both", "many_rules", "all_rules"],
+    counts: ["count_of", "counted_rows", "depth_of", "judge_row", "row_holds"],
+    changes: ["is_change", "wall_behind", "changed_cord", "led_rule"],
+    allcords: ["judge_change", "change_holds", "after_change"],
+    chains: ["walls_led", "cord_led", "new_rule", "lost_sets", "is_firm"],
 }
 
 
@@ -162,7 +195,8 @@ class Calls(unittest.TestCase):
 
     def test_what_fits_another_wall_is_wrong(self):
         for function, rows, _ in CALLS:
-            if len(rows) > 1 and rows[1][2] is not None and rows[1][0] not in ("order", "pegs"):
+            if rows[0] in (WALL_ROW, MANY_ROW) and len(rows) > 1 and rows[1][2] is not None and \
+                    rows[1][0] not in ("order", "pegs", "changes"):
                 small = 2 if rows[0] == MANY_ROW else ((0, 2), ())
                 values = [small] + [row[1] for row in rows[1:]]
                 self.check_error(function, values, rows[1][2], values[1])
@@ -170,8 +204,8 @@ class Calls(unittest.TestCase):
     def test_walls_are_no_cords_and_cords_no_walls(self):
         for function, rows, _ in CALLS:
             values = [row[1] for row in rows]
-            for at, (_, _, error, _) in enumerate(rows):
-                if error not in (None, BadText):
+            for at, (name, _, error, _) in enumerate(rows):
+                if error not in (None, BadText) and name != "changes":
                     wrong = ONE if error is BadWall else WALL
                     self.check_error(function, values[:at] + [wrong] + values[at + 1:], error, wrong)
 

@@ -56,6 +56,34 @@ NESTS_AND_WISHES = r"""
 True
 """
 
+COUNTS = r"""
+>>> from pulledpegs.counts import count_of, counted_rows, depth_of, row_holds
+>>> swapped = ((1, 1), (2, 1), (1, -1), (2, -1))
+>>> [count_of(swapped, (1,)), count_of(swapped, (1, 2)), count_of(swapped, (2, 1)), counted_rows(((1, -2),), 2), depth_of(swapped), row_holds(swapped, ('row', (2, 1), -1)), depth_of(((1, 1), (1, -1)))]
+[0, 1, -1, (((), 1), ((1,), -2), ((1, 1), 3)), 2, True, None]
+"""
+
+CHANGES = r"""
+>>> from pulledpegs.allcords import after_change, change_holds, judge_change
+>>> from pulledpegs.changes import changed_cord, is_change, led_rule, wall_behind
+>>> free = ((0, 0, 0), ())
+>>> [wall_behind(free, ('rail', 1, 3)), wall_behind(((4, 4, 0), ()), ('bring', 1, 2)), wall_behind(((0, 0), ((1, 2),)), ('double', 1)), changed_cord(free, ('carry', 1, 2), ((1, 2), (3, 1))), changed_cord(free, ('double', 1), ((1, -2),)), is_change(((4, 0), ()), ('wear', 1, 3)), led_rule(free, ('double', 1), ((1, 2),))]
+[((0, 0, 0), ((1, 3),)), ((4, 0), ()), ((0, 0, 0), ((1, 2), (2, 3))), ((2, 1), (1, 2), (2, -1), (3, 1)), ((4, -1), (1, -1), (4, -1), (1, -1)), False, ((1, 2), (2, 4))]
+>>> [after_change(free, ((1, 2),), ('rail', 1, 2), (1, 2)), after_change(free, ((1, 2),), ('rail', 1, 2), (1, 2, 3)), judge_change(free, ((1, 2),), ('rail', 1, 2), (1, 2)), judge_change(free, ((1, 2), (3,)), ('rail', 1, 2), (1, 3)), judge_change(free, ((3,),), ('bring', 1, 2), (2,)), after_change(free, ((1, 2),), ('bring', 1, 2), (1,)), after_change(free, ((1,),), ('wear', 1, 2), (1,))]
+['never', 'either', ('never', ((1,), (2,))), ('sure', (3,)), ('sure', (3,)), 'never', 'either']
+>>> change_holds(free, ((1,),), ('wear', 1, 2), (1,), ('either', ((1, 1),), ((1, 2),)))
+True
+"""
+
+CHAINS = r"""
+>>> from pulledpegs.chains import cord_led, is_firm, lost_sets, new_rule, walls_led
+>>> free, cord = ((0, 0, 0), ()), ((1, 1), (2, 1), (1, -1), (2, -1), (3, 2))
+>>> [new_rule(free, ('rail', 1, 2), cord), lost_sets(free, ('rail', 1, 2), cord), is_firm(free, ('rail', 1, 3), cord), new_rule(free, ('wear', 3, 2), cord), lost_sets(free, ('bring', 1, 3), cord), walls_led(free, (('rail', 1, 2), ('wear', 3, 4)))]
+[((3,),), ((1, 2),), True, ((1, 2),), (), (((0, 0, 0), ()), ((0, 0, 0), ((1, 2),)), ((0, 0, 4), ((1, 2),)))]
+>>> cord_led(free, (('wear', 3, 2), ('carry', 1, 2)), ((1, 1),))
+((2, 1), (1, 1), (2, -1))
+"""
+
 
 def shown(code, names):
     """What stands below a line of code: its result, "raises" and the error, or "" for a statement."""
@@ -94,8 +122,16 @@ class Examples(unittest.TestCase):
     def test_nests_and_wishes(self):
         self.run_through(NESTS_AND_WISHES)
 
+    def test_counts(self):
+        self.run_through(COUNTS)
+
+    def test_changes(self):
+        self.run_through(CHANGES)
+
+    def test_chains(self):
+        self.run_through(CHAINS)
+
     def test_the_readme(self):
         text = (Path(__file__).resolve().parent.parent / "README.md").read_text(encoding="utf-8")
-        for block in text.split("```\n")[1::2]:
-            if block.startswith(">>> "):
-                self.run_through(block)
+        # One block goes on with the names of those ahead of it.
+        self.run_through("".join(block for block in text.split("```\n")[1::2] if block.startswith(">>> ")))

@@ -103,6 +103,7 @@ class Language(unittest.TestCase):
         defined = {}
         for name, tree in self.trees():
             defined[name[:-3]] = [node.name for node in tree.body if isinstance(node, (ast.FunctionDef, ast.ClassDef))]
+            defined[name[:-3]] += [node.targets[0].id for node in tree.body if isinstance(node, ast.Assign)]
         needs = {name: [] for name in defined}
         for name, tree in self.trees():
             for node in tree.body:

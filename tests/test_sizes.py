@@ -5,7 +5,7 @@ import random
 import time
 import unittest
 
-from pulledpegs import cords, nests, pulled, rounds, rules, walls, wishes
+from pulledpegs import allcords, chains, changes, cords, counts, nests, pulled, rounds, rules, walls, wishes
 
 ALL_PEGS = tuple(range(1, 11))
 ALL_RAILS = tuple(itertools.combinations(ALL_PEGS, 2))
@@ -29,13 +29,15 @@ def long_cords(chance):
         yield tuple((chance.randint(1, 10), chance.choice((-million, -1, 1, 7, million))) for _ in range(40))
 
 
-class Sizes(unittest.TestCase):
+class Timed(unittest.TestCase):
     def at_once(self, function, *values):
         began = time.perf_counter()
         result = function(*values)
         self.assertLess(time.perf_counter() - began, AT_ONCE, function)
         return result
 
+
+class Sizes(Timed):
     def test_walls(self):
         for wall in WALLS:
             self.assertIs(self.at_once(walls.is_right, wall), True)
@@ -110,13 +112,7 @@ def wound(chance, many, pairs, winds=(-7, -1, 1, 2)):
     return tuple((chance.randint(1, many), chance.choice(winds)) for _ in range(pairs))
 
 
-class SizesOfSets(unittest.TestCase):
-    def at_once(self, function, *values):
-        began = time.perf_counter()
-        result = function(*values)
-        self.assertLess(time.perf_counter() - began, AT_ONCE, function)
-        return result
-
+class SizesOfSets(Timed):
     def test_pulled(self):
         chance = random.Random(10)
         for wall in WALLS:
@@ -207,3 +203,69 @@ class SizesOfSets(unittest.TestCase):
                     self.at_once(wishes.table_holds, ((0,) * 5, ()), table, told)
             self.at_once(rules.is_rule, 10, thing)
         self.at_once(rules.is_rule, 10, tuple(sorted(itertools.combinations(ALL_PEGS, 5))))
+
+
+class SizesOfChanges(Timed):
+    def test_counts(self):
+        chance = random.Random(20)
+        swap = ((1, 1), (2, 1), (1, -1), (2, -1))
+        swapped = cords.swap(((0,) * 10, ()), swap, ((1, 2), (2, 1), (1, -2), (2, -1)))
+        for cord in (swapped, wound(chance, 1, 16, (-20, 20)), wound(chance, 4, 16, (-20, -19, 20)), wound(chance, 10, 16, (-20, 20)),
+                     wound(chance, 10, 24, (-30, 50))):
+            for _ in range(5):
+                for length in (8, 16):
+                    row = tuple(chance.choice(cord)[0] for _ in range(length))
+                    count = self.at_once(counts.count_of, cord, row)
+                    self.assertIs(self.at_once(counts.row_holds, cord, ("row", row, count)), count != 0)
+            for row in ((cord[0][0],) * 2900, tuple(peg for peg, _ in cord) * 120, (1, 2) * 1400):
+                self.assertIs(self.at_once(counts.row_holds, cord, ("row", row, 10 ** 39)), False)
+            self.at_once(counts.depth_of, cord)
+            self.at_once(counts.judge_row, cord)
+        for pegs in (1, 2, 4):
+            cord = wound(chance, pegs, 16, (-20, 20))
+            self.at_once(counts.counted_rows, cord, 4)
+        self.assertEqual(self.at_once(counts.depth_of, swapped), 5)
+
+    def test_changes_of_ten_pegs(self):
+        chance = random.Random(21)
+        for wall in WALLS + [((0,) * 9, ALL_RAILS[:4])]:
+            many = len(wall[0])
+            cord = wound(chance, many, 20, (-50, 50))
+            for thing in [(word, i, j) for word in ("rail", "bring", "carry", "wear") for i in (1, 4, 9) for j in (2, 9, 10)] + \
+                    [("double", i) for i in range(1, many + 1)]:
+                if self.at_once(changes.is_change, wall, thing):
+                    self.at_once(changes.wall_behind, wall, thing)
+                    self.assertLessEqual(len(self.at_once(changes.changed_cord, wall, thing, cord)), 2000)
+
+    def test_all_cords(self):
+        chance = random.Random(22)
+        for slips, rails in (((0,) * 7, ()), ((2,) * 7, ()), ((12,) * 7, ((6, 7),)), ((0,) * 7, ((1, 3), (2, 3), (5, 6)))):
+            wall = (slips, rails)
+            for size in (2, 4):
+                sets = [pegs for pegs in itertools.combinations(range(1, 8), size) if walls.hangs_together(wall, pegs)]
+                for change in (("rail", 1, 2), ("wear", 1, 2), ("wear", 1, 3), ("bring", 1, 2)):
+                    if changes.is_change(wall, change):
+                        for kept in chance.sample(list(itertools.combinations(range(1, 7), 5)), 3):
+                            # With as many least sets within the reach as there can be.
+                            near = [pegs for pegs in sets if set(pegs) <= {*kept, 1, 2}] + chance.sample(sets, 6)
+                            self.judge(wall, tuple(sorted(dict.fromkeys(near[:6]))), change, kept)
+
+    def judge(self, wall, rule, change, kept):
+        told = self.at_once(allcords.judge_change, wall, rule, change, kept)
+        self.assertIs(self.at_once(allcords.change_holds, wall, rule, change, kept, told), True)
+        self.assertEqual(self.at_once(allcords.after_change, wall, rule, change, kept), told[0])
+        cord = wound(random.Random(23), 7, 450)
+        self.at_once(allcords.change_holds, wall, rule, change, kept, ("either", cord, cord))
+
+    def test_chains(self):
+        chance = random.Random(24)
+        for wall in (((0,) * 7, ()), ((0,) * 7, ((1, 2), (1, 3))), ((12,) * 3 + (0,) * 4, ((1, 2),))):
+            for row in ((("double", 7), ("double", 7), ("double", 7)), (("double", 4), ("carry", 4, 5), ("carry", 4, 6), ("rail", 1, 7)),
+                        (("wear", 7, 30), ("wear", 7, 15), ("wear", 7, 3), ("bring", 5, 6))):
+                cord = wound(chance, 7, 10, (-5, 5))
+                self.assertEqual(len(self.at_once(chains.walls_led, wall, row)), len(row) + 1)
+                self.at_once(chains.cord_led, wall, row, cord)
+            for change in (("double", 5), ("carry", 5, 6), ("rail", 5, 7), ("wear", 4, 2), ("bring", 6, 7)):
+                for cord in (wound(chance, 7, 10, (-5, 5)), wound(chance, 2, 10, (-5, 5)), tuple((5, 5) for _ in range(10))):
+                    for function in (chains.new_rule, chains.lost_sets, chains.is_firm):
+                        self.at_once(function, wall, change, cord)
