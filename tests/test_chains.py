@@ -98,7 +98,7 @@ class Exactly(unittest.TestCase):
     def test_small_cords(self):
         for wall in (((0, 0), ()), ((4, 4), ()), ((2, 2), ())):
             changes = [change for change in right_changes(wall) if change[0] != "wear" or change[2] in (2, 3)]
-            for cord in cords_of((1, 2), (-2, -1, 1), 4):
+            for cord in cords_of((1, 2), (-1, 2), 4):
                 for change in changes:
                     self.check(wall, change, cord)
 
