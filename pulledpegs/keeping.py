@@ -18,11 +18,30 @@ def keeps_on(wall, cord, kept):
     return form_on(wall, left_on(cord, kept)) != ()
 
 
+class Forms:
+    """The forms of a cord on sets, by their numbers; each is worked out once it is asked for, and then known."""
+
+    def __init__(self, wall, cord):
+        self.slips = wall[0]
+        self.ties = ties_of(wall)
+        self.known = {(1 << len(wall[0])) - 1: form_by(wall[0], self.ties, cord)}
+
+    def on(self, number):
+        """The form of the cord on the set with the number."""
+        if number not in self.known:
+            # The set with the least peg more that is not in it.
+            above = self.on(number | (number + 1))
+            left = left_on(above, set_of(number))
+            if len(left) < len(above):
+                left = form_by(self.slips, self.ties, left)
+            self.known[number] = left
+        return self.known[number]
+
+
 def table_on(wall, cord):
     """The table of the cord."""
-    ties = ties_of(wall)
-    forms = _forms_begun(wall, ties, cord)
-    return [_form_at(wall, ties, forms, number) != () for number in range(1 << len(wall[0]))]
+    forms = Forms(wall, cord)
+    return [forms.on(number) != () for number in range(1 << len(wall[0]))]
 
 
 def rule_on(wall, cord):
@@ -32,30 +51,21 @@ def rule_on(wall, cord):
 
 def has_rule(wall, cord, rule):
     """Whether the cord has the rule."""
-    ties = ties_of(wall)
-    forms = _forms_begun(wall, ties, cord)
+    forms = Forms(wall, cord)
     for pegs in rule:
-        if _form_at(wall, ties, forms, number_of(pegs)) == ():
+        if forms.on(number_of(pegs)) == ():
             return False
     # What keeps on each least set and falls on each greatest falling set has just this rule.
     for pegs in falling_by(table_by(len(wall[0]), rule)):
-        if _form_at(wall, ties, forms, number_of(pegs)) != ():
+        if forms.on(number_of(pegs)) != ():
             return False
     return True
 
 
-def _forms_begun(wall, ties, cord):
-    """The forms by the numbers of sets, as far as they are known: that on all pegs."""
-    return {(1 << len(wall[0])) - 1: form_by(wall[0], ties, cord)}
-
-
-def _form_at(wall, ties, forms, number):
-    """The form of the cord on the set with the number; it is put among the forms."""
-    if number not in forms:
-        # The set with the least peg more that is not in it.
-        above = _form_at(wall, ties, forms, number | (number + 1))
-        left = left_on(above, set_of(number))
-        if len(left) < len(above):
-            left = form_by(wall[0], ties, left)
-        forms[number] = left
-    return forms[number]
+def set_lost(wall, one, other):
+    """A set that keeps the cord other and not the cord one, None if there is none."""
+    forms = Forms(wall, one)
+    for pegs in rule_on(wall, other):
+        if forms.on(number_of(pegs)) == ():
+            return pegs
+    return None

@@ -1,5 +1,7 @@
 """Values next to a right one: a part too few, too many, exchanged, or of another kind."""
 
+from pulledpegs.houses import Room
+
 
 def near(thing):
     """Values each of which differs from the thing in one place."""
@@ -38,3 +40,14 @@ def is_exactly(one, other):
     if isinstance(one, (tuple, list)):
         return len(one) == len(other) and all(is_exactly(part, its) for part, its in zip(one, other))
     return one == other
+
+
+def shape(value):
+    """What tells whether two values are the same: rooms by their texts, and all parts with their kinds."""
+    if isinstance(value, Room):
+        return ("room", value.text())
+    if isinstance(value, (tuple, list)):
+        return (type(value).__name__, [shape(part) for part in value])
+    if isinstance(value, dict):
+        return ("dict", [(shape(key), shape(part)) for key, part in value.items()])
+    return (type(value).__name__, value)

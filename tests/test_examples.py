@@ -84,6 +84,56 @@ CHAINS = r"""
 ((2, 1), (1, 1), (2, -1))
 """
 
+FRAMES = r"""
+>>> from pulledpegs.galleries import hanging, is_gallery, judge_picture, picture_holds, wall_pegs
+>>> from pulledpegs.frames import hangs_on, least_falls, safe_pictures, wall_rule
+>>> gallery = (((0, 0, 0), ()), (0, 0, 1), (((1, 1), (2, 1)), ((3, 1), (2, 1), (3, -1), (2, -1))))
+>>> [wall_pegs(gallery), hanging(gallery, ()), hanging(gallery, (1,)), hanging(gallery, (2,)), picture_holds(gallery, (1, 2), 1, ('falls', (1,))), picture_holds(gallery, (2,), 2, ('falls', (2,))), judge_picture(gallery, (1,), 2)]
+[(1, 2), (1, 2), (1, 2), (1,), True, True, ('stays', (1, 2))]
+>>> [wall_rule(gallery, 1), wall_rule(gallery, 2), least_falls(gallery, 2), hangs_on(gallery, 2), safe_pictures(gallery, 1)]
+[((1,), (2,)), ((2,),), ((2,),), (1,), (1,)]
+>>> ring = (((0, 0), ()), (2, 1), (((1, 1),), ((2, 1),)))
+>>> [hanging(ring, ()), wall_rule(ring, 1), least_falls(ring, 1)]
+[(1, 2), None, ()]
+"""
+
+ORDERS = r"""
+>>> from pulledpegs.orders import earliest, fall_times, judge_turn, latest, share_of, turn_holds
+>>> rule = ((1, 2), (3,))
+>>> [fall_times(3, rule), share_of(3, rule, 3), share_of(3, rule, 1), earliest(3, rule), latest(3, rule), judge_turn(3, rule, (1, 2, 3)), judge_turn(3, rule, (1, 2)), turn_holds(3, rule, (1, 3), ('win', 1)), fall_times(2, ())]
+[(0, 0, 4, 2), 4, 1, 2, 3, ('win', 3), ('lose',), True, (2, 0, 0)]
+"""
+
+REPORTS = r"""
+>>> from pulledpegs.reports import judge_reports, judge_sure, many_fitting, open_sets, settled_rule, state_of
+>>> wall, seen = ((0, 0, 0), ((1, 3), (2, 3))), (((1, 2), False), ((1, 2, 3), True))
+>>> [state_of(wall, seen, (3,)), state_of(wall, seen, (2,)), judge_sure(wall, seen, (2, 3)), judge_sure(wall, seen, (1,)), open_sets(wall, seen), settled_rule(wall, seen), many_fitting(wall, ())]
+['keeps', 'falls', ('keeps', (1, 2, 3)), ('falls', ((1, 2),)), (), ((3,),), 10]
+>>> [judge_reports(wall, (((1, 2), False), ((1, 3), True), ((3,), False))), judge_reports(wall, (((), True),))]
+[('quarrel', (1, 3), ((1, 2), (3,))), ('quarrel', (), ())]
+"""
+
+PAIRS = r"""
+>>> from pulledpegs.pairs import fall_ways, judge_lasts, lasts, lasts_holds
+>>> wall, nest, both = ((0, 0, 0), ()), ((1, 1), (2, 1), (1, -1), (2, -1)), ((1, 1), (2, 1))
+>>> [lasts(wall, both, nest), judge_lasts(wall, both, nest), lasts_holds(wall, nest, both, ('set', (1, 3))), fall_ways(wall, both, nest), fall_ways(wall, ((1, 1),), ((2, 1),)), fall_ways(wall, ((1, 1),), ((1, 2),))]
+[True, ('lasts',), True, ('second',), ('first', 'second'), ('both',)]
+"""
+
+ROOMS = r"""
+>>> from pulledpegs.houses import Room
+>>> room = Room(((0, 0), ()))
+>>> [room.put('a', ((1, 1),)), room.put('b', ((2, 1),)), room.swap('a', 'a', 'b'), room.make(('keeps', 'a', (1, 2))), room.names(), room.text()]
+[None, None, None, None, (('a', ((1, 1), (2, 1), (1, -1), (2, -1))), ('b', ((2, 1),))), 'pegs 0 0\ncord a 1:1 2:1 1:-1 2:-1\ncord b 2:1\npromise keeps a 1 2']
+>>> [room.undo(), room.promises(), room.redo(), room.copied().is_same(room), room.leave('b'), len(room.names())]
+[None, (), None, True, None, 1]
+>>> room.make(('falls', 'a', (1, 2)))
+raises Broken(('falls', 'a', (1, 2)), ('rest', ((1, 1), (2, 1), (1, -1), (2, -1))))
+>>> from pulledpegs.texts import read_room
+>>> read_room('pegs 0 0\ncord a 1:0')
+raises BadText(2)
+"""
+
 
 def shown(code, names):
     """What stands below a line of code: its result, "raises" and the error, or "" for a statement."""
@@ -130,6 +180,21 @@ class Examples(unittest.TestCase):
 
     def test_chains(self):
         self.run_through(CHAINS)
+
+    def test_galleries_and_frames(self):
+        self.run_through(FRAMES)
+
+    def test_orders(self):
+        self.run_through(ORDERS)
+
+    def test_reports(self):
+        self.run_through(REPORTS)
+
+    def test_pairs(self):
+        self.run_through(PAIRS)
+
+    def test_rooms(self):
+        self.run_through(ROOMS)
 
     def test_the_readme(self):
         text = (Path(__file__).resolve().parent.parent / "README.md").read_text(encoding="utf-8")

@@ -23,6 +23,9 @@ BARRED_NAMES = set("""register mro elements open input law version_info with_tra
 BARRED_WORDS = re.compile(r"\b(type|typing|typing_extensions|enum|Enum|IntEnum|StrEnum|Flag|IntFlag|Generic|Protocol|ABC|ABCMeta|"
                           r"namedtuple|NamedTuple|TypedDict|TYPE_CHECKING|abstractmethod)\b|dataclass|overload|contextmanager|_wall\b")
 
+# Files of the library, and what may be imported from them.
+LIBRARY = {"math": ("factorial",)}
+
 STATEMENTS = (ast.FunctionDef, ast.ClassDef, ast.Assign, ast.AugAssign, ast.If, ast.While, ast.For, ast.Return, ast.Break,
               ast.Continue, ast.Pass, ast.Raise, ast.Assert, ast.Delete, ast.Try, ast.ImportFrom, ast.Expr)
 
@@ -107,7 +110,11 @@ class Language(unittest.TestCase):
         needs = {name: [] for name in defined}
         for name, tree in self.trees():
             for node in tree.body:
-                if isinstance(node, ast.ImportFrom):
+                if isinstance(node, ast.ImportFrom) and node.module in LIBRARY:
+                    for alias in node.names:
+                        self.assertIn(alias.name, LIBRARY[node.module], name)
+                        self.assertIsNone(alias.asname)
+                elif isinstance(node, ast.ImportFrom):
                     package, _, module = node.module.partition(".")
                     self.assertEqual((package, node.level), ("pulledpegs", 0), name)
                     needs[name[:-3]].append(module)
@@ -154,10 +161,21 @@ class Language(unittest.TestCase):
             self.assertNotRegex(path.read_text(encoding="utf-8"), r"\b(_wall|_WallAttr)\b", path.name)
 
     def test_methods_and_attributes(self):
-        assigned = {"join"}
+        assigned, methods = {"join"}, set()
+        for place, node in self.nodes(ast.ClassDef):
+            its = [part.name for part in node.body if isinstance(part, ast.FunctionDef) and part.name != "__init__"]
+            self.assertEqual(len(its), len(set(its)), place)
+            stored = {part.attr for part in ast.walk(node) if isinstance(part, ast.Attribute) and isinstance(part.ctx, ast.Store)}
+            self.assertFalse(stored & set(its), place)
+            for word in its:
+                self.assertFalse(any(hasattr(kind, word) for kind in (str, int, list, dict, set, bytes)), (place, word))
+            methods |= set(its)
         for _, node in self.nodes(ast.Attribute):
             if isinstance(node.ctx, ast.Store):
+                self.assertIsInstance(node.value, ast.Name)
                 assigned.add(node.attr)
+        self.assertFalse(assigned & methods)
+        assigned |= methods
         for place, node in self.nodes(ast.Attribute):
             if isinstance(node.ctx, ast.Load):
                 self.assertIn(node.attr, METHODS | assigned, place)
